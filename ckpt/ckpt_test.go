@@ -8,6 +8,7 @@ import (
 
 	"almanac/api"
 	"almanac/disk"
+	"almanac/entry"
 	"almanac/geom"
 	"almanac/image"
 	"almanac/model"
@@ -203,7 +204,7 @@ func (g *game) again() {
 	}
 	at, n := geom.Journal(g.c)
 	_, l, err := ring.Open(g.d, at, n)
-	if err != nil || !bytes.Equal(l[len(l)-1], record(b)) {
+	if err != nil || !bytes.Equal(l[len(l)-1], entry.Encode(b)) {
 		g.t.Fatalf("P2202: the journal: %v", err)
 	}
 	g.m, g.now, g.next = m, g.was.Twin(), nil

@@ -5,7 +5,7 @@ import (
 	"slices"
 
 	"almanac/api"
-	"almanac/codec"
+	"almanac/entry"
 	"almanac/image"
 	"almanac/live"
 	"almanac/super"
@@ -182,18 +182,9 @@ func (m *Manager) publish(epoch uint64, root api.Addr) api.Errno {
 	return api.OK
 }
 
-// record tells a superblock's epoch and root.
-func record(b super.Block) []byte {
-	w := codec.NewWriter()
-	for _, v := range []int64{int64(b.Epoch), int64(b.Root.Sector), int64(b.Root.N), int64(b.Seq)} {
-		w.Int(v)
-	}
-	return w.Done()
-}
-
 // journal appends a record. The last one stays till the new one is there, if both have room.
 func (m *Manager) journal(b super.Block) api.Errno {
-	rec := record(b)
+	rec := entry.Encode(b)
 	for stays := uint64(recordsStays); m.ring.Room() < len(rec); stays-- {
 		if m.ring.Next()-m.ring.First() > stays {
 			if e := m.ring.Truncate(m.ring.Next() - 1 - stays); e != api.OK {
