@@ -428,6 +428,34 @@ func TestUnchanged(t *testing.T) { // P2204: what was stored and is the same is 
 	}
 }
 
+func TestCommitAtOnce(t *testing.T) { // P2202: Commit is refused where Step would not tell false
+	c := shapes[0]
+	d, _ := disk.New(c.Sectors, c.Sector)
+	m, _ := New(c, d, super.Block{Epoch: 1, Config: c})
+	m.Begin()
+	if e := m.Commit(); e != api.OK || m.Epoch() != 2 {
+		t.Errorf("P2202: nothing is to be written: %v", e)
+	}
+	m.Do(api.Op{Kind: api.OMake})
+	m.Begin()
+	if e := m.Commit(); e != api.ErrNot || m.Epoch() != 2 || !m.Begun() {
+		t.Errorf("P2202: %v", e)
+	}
+	w := m.Store().Left()
+	for {
+		more, e := m.Step()
+		if e != api.OK || more != (m.Store().Left() < w) {
+			t.Fatalf("P2202: Step: %v, %v", more, e)
+		}
+		if w = m.Store().Left(); !more {
+			break
+		}
+	}
+	if e := m.Commit(); e != api.OK || m.Epoch() != 3 {
+		t.Errorf("P2202: %v", e)
+	}
+}
+
 func TestCleanFrees(t *testing.T) { // P2203
 	c := shapes[2]
 	g := newGame(t, 1, c)

@@ -27,20 +27,33 @@ type epoch struct {
 	maker   *image.Maker
 	nodes   *nodeSink
 	same    map[api.Page]int // slots whose bytes are those of the saved image
+	puts    int              // blobs that were put for it
 	bound   int
+	equal   bool // whether it is as the saved image: there is nothing to write
 	written bool
 }
 
 // Save, Unchanged are the maker's keeper.
-func (x *epoch) Save(id int) (api.Addr, api.Errno) { return x.m.pager.Save(id) }
+func (x *epoch) Save(id int) (api.Addr, api.Errno) {
+	x.puts++
+	return x.m.pager.Save(id)
+}
 
 func (x *epoch) Unchanged(pid, page int) bool {
 	_, ok := x.same[api.Page{Pid: pid, N: page}]
 	return ok
 }
 
-// Step is the task of writing it out.
-func (x *epoch) Step() (bool, api.Errno) { return x.maker.Step(x) }
+// Step is the task of writing it out: true, if some more of it was.
+func (x *epoch) Step() (bool, api.Errno) {
+	before := x.puts + len(x.nodes.made)
+	more, e := x.maker.Step(x)
+	if e != api.OK {
+		return false, e
+	}
+	x.written = !more
+	return more || x.puts+len(x.nodes.made) > before, api.OK
+}
 
 // Begin, Step, Commit are an epoch; Evict, Clean work behind it.
 func (m *Manager) Begin() api.Errno {
@@ -54,6 +67,7 @@ func (m *Manager) Begin() api.Errno {
 	m.saw = nil
 	x := &epoch{m: m, frozen: m.live.Freeze(), same: map[api.Page]int{}}
 	slots, procs := x.compare()
+	x.equal = slots+procs == 0
 	x.bound = stepsOfSlot*slots + min(stepsOfProc*procs, mostOfProcs) + stepsAlways
 	x.nodes = &nodeSink{to: m.put, store: m.store}
 	maker, e := image.Start(m.c, x.nodes, m.saved.Root, x.frozen.Processes()...)
@@ -94,7 +108,9 @@ func (x *epoch) compare() (slots, procs int) {
 			at := api.Page{Pid: p.Pid, N: s.Page}
 			a, ok := left[at]
 			delete(left, at)
-			if !ok || !x.stands(at, s.Id, a) {
+			if ok && x.stands(s.Id, a) {
+				x.same[at] = s.Id
+			} else {
 				slots++
 			}
 		}
@@ -107,8 +123,8 @@ func (x *epoch) compare() (slots, procs int) {
 	return slots + len(left), procs
 }
 
-// stands tells whether a slot's page has the bytes that the saved image has at a; it is noted, if they stand elsewhere, too.
-func (x *epoch) stands(at api.Page, id int, a api.Addr) bool {
+// stands tells whether a slot's page has the bytes that the saved image has at a.
+func (x *epoch) stands(id int, a api.Addr) bool {
 	where, clean := x.m.pager.Where(id)
 	if clean && where == a {
 		return true
@@ -125,11 +141,7 @@ func (x *epoch) stands(at api.Page, id int, a api.Addr) bool {
 		return false
 	}
 	old, e := x.m.store.Get(a)
-	if e != api.OK || !bytes.Equal(old, now) {
-		return false
-	}
-	x.same[at] = id
-	return true
+	return e == api.OK && bytes.Equal(old, now)
 }
 
 func (m *Manager) Step() (bool, api.Errno) {
@@ -140,20 +152,20 @@ func (m *Manager) Step() (bool, api.Errno) {
 	if x.written {
 		return false, api.OK
 	}
-	more, e := m.work(x)
-	if e != api.OK {
-		return false, e
-	}
-	x.written = !more
-	return more, api.OK
+	return m.work(x)
 }
 
 func (m *Manager) Commit() api.Errno {
-	if m.epoch == nil || !m.epoch.written {
+	if m.epoch == nil || !m.epoch.written && !m.epoch.equal {
 		return api.ErrNot
 	}
 	if m.lost {
 		return api.ErrDown
+	}
+	if !m.epoch.written {
+		if _, e := m.Step(); e != api.OK {
+			return e
+		}
 	}
 	root, _ := m.epoch.maker.Root()
 	if e := m.publish(m.saved.Epoch+1, root); e != api.OK {

@@ -80,7 +80,14 @@ func (s *pageSink) Put(b []byte) (api.Addr, api.Errno) {
 	return a, e
 }
 
-func (s *pageSink) Get(a api.Addr) ([]byte, api.Errno) { return s.m.store.Get(a) }
+// Get tells of a place that may not be, as an image may name it, what it is to a machine: bytes that may not be.
+func (s *pageSink) Get(a api.Addr) ([]byte, api.Errno) {
+	b, e := s.m.store.Get(a)
+	if e == api.ErrArg {
+		e = api.ErrCorrupt
+	}
+	return b, e
+}
 
 // nodeSink is what an image's nodes are put to; it keeps where they are.
 type nodeSink struct {

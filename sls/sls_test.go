@@ -361,14 +361,14 @@ func TestNewOf(t *testing.T) { // P2401
 		t.Errorf("P2401: Full: %v, %d", a.Err, a.Epoch)
 	}
 	s, _ = Of(x.Disk().Bytes(), 64)
-	l := s.Play(Move{Kind: Boot}, Move{Kind: Do, Op: api.Op{Kind: api.OList}}, Move{Kind: Step}, Move{Kind: Commit}, Move{Kind: Begin}, Move{Kind: Begin}, Move{Kind: Commit}, Move{Kind: Full})
-	want := []Answer{{Epoch: 2}, {Answer: api.Answer{Pids: []int{0}}}, wrongly(api.ErrNot), wrongly(api.ErrNot), {}, wrongly(api.ErrNot), wrongly(api.ErrNot), {Epoch: 3}}
+	l := s.Play(Move{Kind: Boot}, Move{Kind: Do, Op: api.Op{Kind: api.OList}}, Move{Kind: Step}, Move{Kind: Commit}, Move{Kind: Do, Op: api.Op{Kind: api.OMake}}, Move{Kind: Begin}, Move{Kind: Begin}, Move{Kind: Commit}, Move{Kind: Full}, Move{Kind: Begin}, Move{Kind: Step}, Move{Kind: Commit})
+	want := []Answer{{Epoch: 2}, {Answer: api.Answer{Pids: []int{0}}}, wrongly(api.ErrNot), wrongly(api.ErrNot), {Answer: api.Answer{Pid: 1}}, {}, wrongly(api.ErrNot), wrongly(api.ErrNot), {Epoch: 3}, {}, {}, {Epoch: 4}}
 	for i, a := range l {
-		if a.Err != want[i].Err || a.Epoch != want[i].Epoch || a.More || !slices.Equal(a.Pids, want[i].Pids) {
+		if a.Pid != want[i].Pid || a.Err != want[i].Err || a.Epoch != want[i].Epoch || a.More || !slices.Equal(a.Pids, want[i].Pids) {
 			t.Errorf("P2402: %d: %v; want %v", i, a, want[i])
 		}
 	}
-	if s.Config() != shapes[1] || s.Weight() != 1 || s.Epoch() != 3 || s.Down() {
+	if s.Config() != shapes[1] || s.Weight() != 2 || s.Epoch() != 4 || s.Down() {
 		t.Error("P2402")
 	}
 	_, size := s.Disk().Shape()
