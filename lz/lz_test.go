@@ -68,6 +68,16 @@ func TestUnpack(t *testing.T) { // P401, P402
 	}
 }
 
+func TestVeryLong(t *testing.T) { // P1: more bytes than any answer may have
+	b := append(ints.Var([]byte("\x01\x02a"), 1<<50|1), 1)
+	if n, e := Check(b, math.MaxInt); n != 1<<49+1 || e != api.OK {
+		t.Errorf("P402: %d, %v", n, e)
+	}
+	if out, e := Unpack(b, math.MaxInt); out != nil || e != api.ErrLong {
+		t.Errorf("P1: %v", e)
+	}
+}
+
 func TestCopies(t *testing.T) { // P402
 	if l, c, e := Copies([]byte("\x01\x06abc\x0b\x03")); l != 3 || c != 5 || e != api.OK {
 		t.Errorf("P402: %d, %d, %v", l, c, e)
