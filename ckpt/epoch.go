@@ -11,13 +11,14 @@ import (
 	"almanac/super"
 )
 
-// Of what is changed between two images: more nodes than these are not put, and no more Steps are taken.
+// Steps that an epoch takes at most, by what is changed. One Step saves a page, or puts eight nodes.
 const (
-	stepsOfSlot  = 2  // one saves it, and at most six nodes lead to it, of which eight are a Step
-	stepsOfProc  = 2  // at most thirteen nodes lead to it, and to its regions
-	mostOfProcs  = 20 // all processes and regions together have 150 nodes at most
-	stepsAlways  = 4
-	recordsStays = 1 // of the journal
+	stepsOfSlot = 2  // it is saved, and at most six nodes lead to it
+	stepsOfProc = 2  // at most thirteen nodes lead to it, and to its regions
+	mostOfProcs = 20 // the nodes that lead to all processes and regions together are 150 at most
+	stepsAlways = 4
+
+	recordsLeft = 1 // of the journal, when it is cut short
 )
 
 // epoch is one that is begun: pending.
@@ -27,7 +28,7 @@ type epoch struct {
 	maker   *image.Maker
 	nodes   *nodeSink
 	same    map[api.Page]int // slots whose bytes are those of the saved image
-	puts    int              // blobs that were put for it
+	saves   int              // pages that were saved for it
 	bound   int
 	equal   bool // whether it is as the saved image: there is nothing to write
 	written bool
@@ -35,7 +36,7 @@ type epoch struct {
 
 // Save, Unchanged are the maker's keeper.
 func (x *epoch) Save(id int) (api.Addr, api.Errno) {
-	x.puts++
+	x.saves++
 	return x.m.pager.Save(id)
 }
 
@@ -46,13 +47,13 @@ func (x *epoch) Unchanged(pid, page int) bool {
 
 // Step is the task of writing it out: true, if some more of it was.
 func (x *epoch) Step() (bool, api.Errno) {
-	before := x.puts + len(x.nodes.made)
+	before := x.saves + len(x.nodes.made)
 	more, e := x.maker.Step(x)
 	if e != api.OK {
 		return false, e
 	}
 	x.written = !more
-	return more || x.puts+len(x.nodes.made) > before, api.OK
+	return more || x.saves+len(x.nodes.made) > before, api.OK
 }
 
 // Begin, Step, Commit are an epoch; Evict, Clean work behind it.
@@ -197,7 +198,7 @@ func (m *Manager) publish(epoch uint64, root api.Addr) api.Errno {
 // journal appends a record. The last one stays till the new one is there, if both have room.
 func (m *Manager) journal(b super.Block) api.Errno {
 	rec := entry.Encode(b)
-	for stays := uint64(recordsStays); m.ring.Room() < len(rec); stays-- {
+	for stays := uint64(recordsLeft); m.ring.Room() < len(rec); stays-- {
 		if m.ring.Next()-m.ring.First() > stays {
 			if e := m.ring.Truncate(m.ring.Next() - 1 - stays); e != api.OK {
 				return e
