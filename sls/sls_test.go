@@ -436,3 +436,55 @@ func TestAnyDisk(t *testing.T) { // P2403: T4
 		t.Error("disk")
 	}
 }
+
+// calm does something that neither arms a write nor takes the power away.
+func (p *play) calm() {
+	switch k := p.r.Intn(10); {
+	case k < 5:
+		p.do()
+	case k < 8:
+		p.epoch()
+	case k < 9:
+		p.fail(p.s.Move(Move{Kind: Evict, N: p.r.Intn(12)}), "Evict")
+	default:
+		p.fail(p.s.Move(Move{Kind: Clean, N: 1}), "Clean")
+	}
+}
+
+func TestEveryCut(t *testing.T) { // P2403: T2, at each write of a script
+	for i, c := range shapes {
+		for n := 1; ; n++ {
+			p := start(t, int64(i+1), c)
+			keep := make([]bool, 64)
+			for k := range keep {
+				keep[k] = n%3 == 1 || n%3 == 2 && (k+n)%2 == 0
+			}
+			p.s.Move(Move{Kind: Arm, N: n, Keep: keep})
+			for _, op := range []api.Op{{Kind: api.OMake}, {Kind: api.OMap, N: 12, Prot: 3}, {Kind: api.OMake}, {Kind: api.OMap, Pid: 1, N: 12, Prot: 3}} {
+				p.d.Do(op, p.s.Move(Move{Kind: Do, Op: op}).Answer)
+			}
+			for round := 0; round < 250 && !p.s.Down(); round++ {
+				p.calm()
+			}
+			if !p.s.Down() {
+				t.Logf("shape %d: %d writes", i, n-1)
+				break // the script has fewer writes
+			}
+			for cut := 1; p.s.Down(); cut++ { // so is the recovery, at each of its writes
+				p.s.Move(Move{Kind: Arm, N: cut, Keep: keep})
+				a := p.s.Move(Move{Kind: Boot})
+				off := p.s.Disk().Off()
+				if !off {
+					p.s.Disk().Arm(1 << 40)
+				}
+				if p.d.Boot(a.Err, a.Epoch, off, p.see) != doubt.Fine {
+					t.Fatalf("T2: shape %d, write %d: %v, epoch %d", i, n, a.Err, a.Epoch)
+				}
+			}
+			p.pending = nil
+			for range 20 {
+				p.calm()
+			}
+		}
+	}
+}
