@@ -159,6 +159,26 @@ func TestSpace(t *testing.T) { // P901
 	}
 }
 
+func TestTableIsOthersToo(t *testing.T) { // P902: the store goes on with its table
+	r := rand.New(rand.NewSource(6))
+	s, d := newStore(t)
+	s.Put(noise(r, 20))
+	s.Table().Fill(0)
+	if s.Left() != 75 {
+		t.Errorf("P902: Left: %d", s.Left())
+	}
+	s.Table().Hold(0, 1)
+	s.Table().Release(1)
+	d.Arm(1)
+	if _, e := s.Put(noise(r, 20)); e != api.ErrDown || s.Left() != 80 {
+		t.Errorf("P5: %v, %d", e, s.Left())
+	}
+	d.On()
+	if a, e := s.Put(noise(r, 20)); e != api.OK || a.Sector != 6 || s.Left() != 79 {
+		t.Errorf("P901: %v, %v", a, e)
+	}
+}
+
 func TestFlushSealSpoil(t *testing.T) { // P902
 	r := rand.New(rand.NewSource(3))
 	s, d := newStore(t)
