@@ -2,6 +2,7 @@ package space
 
 import (
 	"almanac/api"
+	"almanac/owners"
 	"almanac/rules"
 )
 
@@ -84,7 +85,7 @@ func (t *storing) base(x part) (int, api.Errno) {
 func (s *Space) inPlace(at, n int) (int, bool) {
 	place := at / s.c.Page
 	id, ok := s.ids[place]
-	return id, ok && (at+n-1)/s.c.Page == place && !s.owned().Shared(id)
+	return id, ok && (at+n-1)/s.c.Page == place && !owners.Of(s.p).Shared(id)
 }
 
 func (s *Space) Store(at int, b []byte) api.Errno {

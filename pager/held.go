@@ -1,4 +1,4 @@
-package pages
+package pager
 
 import "almanac/frames"
 
@@ -8,6 +8,10 @@ type held struct {
 	n    int
 	used int
 	data [][]byte
+}
+
+func holding(pool *frames.Pool, n int) held {
+	return held{pool: pool, n: n, data: make([][]byte, n)}
 }
 
 // find tells a page's frame, if it is in memory.
