@@ -118,12 +118,15 @@ type cleaning struct {
 	made  *nodeSink
 }
 
-// compact cleans all segments whose pages leave room, if that frees some.
-func (m *Manager) compact() api.Errno {
+// compact cleans segments if that frees some.
+func (m *Manager) compact() api.Errno { return m.cleanAll(1) }
+
+// cleanAll cleans all segments whose pages leave room, if that frees so many at least.
+func (m *Manager) cleanAll(gain int) api.Errno {
 	if m.lost {
 		return api.ErrDown
 	}
-	t, e := m.plan()
+	t, e := m.plan(gain)
 	if t == nil || e != api.OK {
 		return e
 	}
@@ -138,8 +141,8 @@ func (m *Manager) compact() api.Errno {
 	return m.sweep()
 }
 
-// plan chooses the segments that are cleaned; none, if that would free none.
-func (m *Manager) plan() (*cleaning, api.Errno) {
+// plan chooses the segments that are cleaned; none, if that would free fewer.
+func (m *Manager) plan(gain int) (*cleaning, api.Errno) {
 	saw, e := m.look()
 	if e != api.OK {
 		return nil, e
@@ -155,7 +158,7 @@ func (m *Manager) plan() (*cleaning, api.Errno) {
 		nodes += len(m.epoch.nodes.made)
 	}
 	victims, takes := m.victims(pages, nodes)
-	if len(victims) <= takes {
+	if len(victims) == 0 || len(victims)-takes < gain {
 		return nil, api.OK
 	}
 	for _, a := range pages {
